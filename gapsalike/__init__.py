@@ -1,0 +1,1 @@
+"""Gapsalike: white space that no context tells apart."""
