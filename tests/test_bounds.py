@@ -75,7 +75,7 @@ class TheWholeProgram(unittest.TestCase):
             self.assertEqual(forms.normal_form(row), slow_normal_form(row))
             self.assertEqual(forms.normal_form(forms.shortened(row)), slow_normal_form(row))
             self.assertIs(forms.are_alike(row, forms.stands_for(forms.normal_form(row))), True)
-            self.assertEqual(len(forms.free_places(row)) <= len(fragments.units(row)) + 1, True)
+            self.assertLessEqual(len(forms.free_places(row)), len(fragments.units(row)) + 1)
 
 
 if __name__ == "__main__":

@@ -106,6 +106,7 @@ class Telling(unittest.TestCase):
         self.assertIs(is_telling(flow(" "), [], ("a" * 500, "a" * 500)), True)
         # The strings of a context stand in the mode collapse: its feeds are white.
         self.assertIs(is_telling(flow(" "), [], ("a\n", "a")), False)
+        self.assertIs(is_telling(flow("b\n<"), flow("b<"), ("", "\na")), True)
         self.assertIs(is_telling(flow("x"), flow("y"), ("\n", "\n")), True)
 
 

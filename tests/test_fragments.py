@@ -6,6 +6,15 @@ from gapsalike.fragments import is_fragment, kind, tidy, units
 from helper import ALL_UNITS, MODES, SIGNS, flow, fragments, long_fragments, slow_kind
 
 
+class EqualToAll:
+    """Something that is no string, but says that it is equal to any."""
+
+    def __eq__(self, other):
+        return True
+
+    __hash__ = None
+
+
 class WhatIsAFragment(unittest.TestCase):
     def test_ordinary_fragments(self):
         self.assertIs(is_fragment([("collapse", "a b"), ("breaks", "c\nd"), ("preserve", "  ")]), True)
@@ -41,7 +50,8 @@ class WhatIsAFragment(unittest.TestCase):
         self.assertIs(is_fragment([("collapse", "a" * 400), ("preserve", " ")]), False)
 
     def test_other_modes(self):
-        for mode in ("", "Collapse", "collapse ", "pre", "break", None, 0, True, b"collapse", ("collapse",), ["breaks"]):
+        for mode in ("", "Collapse", "collapse ", "pre", "break", None, 0, True, b"collapse", ("collapse",), ["breaks"],
+                     EqualToAll()):
             self.assertIs(is_fragment([(mode, "a")]), False, mode)
             self.assertIs(is_fragment([("collapse", "a"), (mode, "")]), False, mode)
 
