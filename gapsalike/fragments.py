@@ -3,6 +3,8 @@
 MODES = ("collapse", "breaks", "preserve")
 MOST_RUNS = 100
 MOST_SIGNS = 400
+# What may arrive in pieces, or stand in a document, is longer than a fragment.
+MOST_UNITS = 2000
 STAND_INS = {"|": "end", "^": "zero", "<": "mark", ">": "mark"}
 
 

@@ -54,6 +54,14 @@ def slow_units(fragment):
     return row
 
 
+def slow_tidy(row):
+    """Point 3: the tidy fragment of a list of units."""
+    return [
+        (mode, "".join(sign for _, sign in group))
+        for mode, group in itertools.groupby(row, lambda unit: unit[0])
+    ]
+
+
 def slow_kind(unit):
     """The table of point 4."""
     mode, sign = unit
