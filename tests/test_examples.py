@@ -1,8 +1,10 @@
-"""Point 24: the examples that speak of the modules that are there."""
+"""Point 24: the examples, word by word."""
 
 import unittest
 
 from gapsalike.forms import free_places, normal_form, telling
+from gapsalike.lines import laid_out
+from gapsalike.pieces import Stream, certain
 from gapsalike.showing import shown
 from helper import flow
 
@@ -29,6 +31,18 @@ class Examples(unittest.TestCase):
         self.assertEqual(free_places(flow("x|y")), [1, 2])
         self.assertEqual(free_places(flow("\nx")), [0, 1])
         self.assertEqual(free_places([("preserve", "a b")]), [])
+
+    def test_laid_out_in_lines(self):
+        self.assertEqual(laid_out(flow("ABCD"), 2, 0), (flow("AB\nCD"), 1))
+
+    def test_certain_texts(self):
+        self.assertEqual(certain(flow("A <")), "A")
+        self.assertEqual(certain(flow("A <>\n")), "A<>")
+        self.assertEqual(certain(flow("A <>\nB")), "A<>B")
+        stream = Stream()
+        told = [stream.push(flow(text)) for text in ("A <", ">\n", "B")]
+        self.assertEqual(told, ["A", "<>", "B"])
+        self.assertEqual(stream.end(), "")
 
 
 if __name__ == "__main__":
